@@ -1,0 +1,1 @@
+"""Rows of equal cells, decided for all widths."""

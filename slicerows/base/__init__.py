@@ -1,0 +1,1 @@
+"""Words, columns and walks, on which all else rests."""

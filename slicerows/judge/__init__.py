@@ -1,0 +1,1 @@
+"""What holds for rows of every width."""
