@@ -6,6 +6,8 @@ import random
 import unittest
 
 from slicerows import errors
+from slicerows.far.programs import Program
+from slicerows.numbers.conditions import Condition
 from slicerows.rows.ready import highest, parity, sooner
 from slicerows.rows.rows import Row, row_with
 
@@ -17,6 +19,10 @@ AGAIN = Row(((0, 2, 2, 1), (0, 1, 1, 1), (0, 2, 2, 1)), ((0, 0, 0, 0),),
             ((("0", "1", "1", "0"),), (("1", "0", "0", "1"),), (("0", "1", "1", "0"),)))
 
 
+FAR = Program(1, (("words", ("01",)), ("power", 0, 3)))
+LOW = Condition("most", (1,), 3)
+
+
 def deep(value, depth):
     """A value inside so many tuples, lists and dicts."""
     for at in range(depth):
@@ -25,7 +31,8 @@ def deep(value, depth):
 
 
 KINDS = (None, True, False, "", "x", "0 1", "01\n", "~" * 5000, (), (None,), [], [0], ["0"], {}, {0: "0"}, {"0": 0},
-         -1, 10 ** 199, 10 ** 200, -10 ** 200, 10 ** 299, (True,), ((),), ADD, (ADD,), [ADD], deep(0, 10), deep("0", 9))
+         -1, 10 ** 199, 10 ** 200, -10 ** 200, 10 ** 299, (True,), ((),), ADD, (ADD,), [ADD], FAR, LOW, (LOW, FAR),
+         deep(0, 10), deep("0", 9))
 
 
 def not_numbers(low, high):
@@ -60,6 +67,16 @@ def not_inputs(lines):
 def not_rows():
     """Values that are no rows."""
     return [value for value in KINDS if not isinstance(value, Row)] + [ADD.on, (ADD.on, ADD.back, ADD.out)]
+
+
+def not_programs():
+    """Values that are no programs."""
+    return [value for value in KINDS if not isinstance(value, Program)] + [FAR.steps, (1, FAR.steps), "words"]
+
+
+def not_conditions():
+    """Values that are no conditions."""
+    return [value for value in KINDS if not isinstance(value, Condition)] + ["most", ("most", (1,), 3), LOW.first]
 
 
 def same(one, other):

@@ -1,11 +1,15 @@
 """The examples of the document, as it prints them."""
 
+from slicerows.back import onto, pairs
 from slicerows.base import bits
+from slicerows.counts import counts
+from slicerows.far import programs
 from slicerows.judge import alike, least, sides
-from slicerows.rows import ready, rows
+from slicerows.numbers import conditions, decided, meaning
+from slicerows.rows import joined, ready, rows
 from tests.helpers import Checks
 
-MODULES = (bits, rows, ready, alike, least, sides)
+MODULES = (bits, rows, ready, alike, least, sides, joined, programs, conditions, decided, meaning, counts, pairs, onto)
 
 VALUES = """
 >>> ADD = Row(((0, 0, 0, 1), (0, 1, 1, 1)), ((0, 0, 0, 0),), ((("0", "1", "1", "0"),), (("1", "0", "0", "1"),)))
@@ -57,6 +61,75 @@ SIDES = """
 [(0, 1), (None, 0), (1, 0), (0, 0), (None, None), (0, None)]
 """
 
+JOINED = """
+>>> [behind(later("0"), HALF)(("0111",)), are_alike(behind(HALF, later("0")), copied(1)), behind(negated(), negated()) == copied(1), behind(ADD, HALF)(("1100", "1000")), repeated(later("0"), 3)(("11111",))]
+[('0110',), False, True, ('0100',), ('00011',)]
+>>> negated_second = behind(picked(2, (1,)), negated())
+>>> [together(ADD, subtracted())(("010", "100")), beside(negated(), last())(("010", "110")), behind(together(picked(2, (0,)), negated_second), ADD) == subtracted(), behind(TOP, lowest()) == TOP, repeated(times(3), 2).lefts]
+[('110', '100'), ('011', '000'), True, True, 9]
+>>> behind(ADD, ADD)
+raises InvalidOperation
+"""
+
+PROGRAMS = """
+>>> far = Program(2, (("words", ("1", "1")), ("power", 0, 10 ** 30), ("words", ("0", "0")), ("join", 1, 2)))
+>>> [far.width == 10 ** 30 + 1, far[10 ** 30], far[0], far_left(ADD, 0, far), far_column(ADD, far, 0), far_column(ADD, far, 10 ** 30), far_ones(ADD, far) == (10 ** 30,), far_rest(ADD, far, 0, 7), str(far)]
+[True, '00', '11', 0, '0', '1', True, 2, 'program of 4 steps, 2 lines']
+>>> line = Program.of(1, ("01",)).power(10 ** 20)
+>>> [far_ones(ODD, line), far_right(HALF, 0, line), far_column(TOP, line, 2 * 10 ** 20 - 1), far_rest(copied(1), line, 0, 3), (line + line).width == 4 * 10 ** 20]
+[(0,), 0, '1', 2, True]
+"""
+
+CONDITIONS = """
+>>> SUM, LOW, EVEN = Condition("equal", (1, 1, -1), 0), Condition("most", (1,), 3), Condition("rest", (1,), 0, modulus=2)
+>>> [SUM(("011", "100", "111")), LOW(("001",)), (LOW & EVEN)(("01",)), (~LOW | EVEN)(("1",)), Condition("wrapped", (1, 1, -1), 0)(("11", "10", "00")), Condition("most", (1,), -2, kind="signed")(("01",)), str(LOW & ~EVEN)]
+[True, False, True, False, True, True, 'condition on 1 words, 2 parts']
+>>> [SUM.first, SUM.behind(0, "110"), SUM.behind(1, "111"), SUM.behind(0, "100"), SUM.holds_at(-1, "001"), SUM.holds_at(1, "101"), LOW.behind(3, "0"), EVEN.first, EVEN.behind((0, 1), "1"), (LOW & EVEN).first]
+[0, -1, 0, None, True, False, 1, (0, 1), (1, 0), (3, (0, 1))]
+>>> [SUM.keeps((10 ** 40, 1, 10 ** 40 + 1)), LOW.keeps((4,)), (LOW & EVEN).parts == (LOW, EVEN), (~LOW).rule, len(LOW & EVEN | LOW)]
+[True, False, True, 'not', 3]
+"""
+
+DECIDED = """
+>>> same = row_of(Condition("equal", (1, -1), 0))
+>>> [same(("011", "010")), same.lefts, are_alike(row_of(~Condition("most", (1, -1), 0)), greater()), row_of(EVEN)(("101",)), row_of(LOW)(("1111",)), row_of(LOW).lefts]
+[('110',), 2, True, ('000',), ('1100',), 4]
+>>> [is_implied(Condition("equal", (1,), 2), LOW & EVEN), is_implied(LOW, EVEN), is_implied_paper(LOW, EVEN, ("fails", ("1",))), can_hold(Condition("equal", (2,), 3)), first_keeping(Condition("equal", (1,), 6)), are_same(~~LOW, LOW)]
+[True, False, True, False, ('011',), True]
+>>> [implied_paper(EVEN, EVEN)[0], is_implied_paper(LOW, LOW, ("implied", ((-1, -1), (0, 0), (1, 1), (3, 3)))), is_first_keeping(~LOW, ("001",)), is_first_keeping(~LOW, ("1111",))]
+['implied', True, True, False]
+"""
+
+MEANING = """
+>>> both = Condition("most", (1, -2), 1) & Condition("most", (-1, 2), 0)
+>>> [means(ADD, Condition("wrapped", (1, 1, -1), 0)), means(ADD, SUM), len(first_exception(ADD, SUM)[0]), means(HALF, both), means(times(3), Condition("wrapped", (3, -1), 0)), means(TOP, Condition("most", (-1, 1), 0))]
+[True, False, 1, True, True, True]
+>>> [meaning_paper(HALF, both)[0], is_meaning_paper(ADD, SUM, ("fails", ("1", "1"))), is_meaning_paper(ADD, SUM, ("fails", ("1", "0"))), means(copied(1), Condition("equal", (1, -1), 0, kind="signed")), means(negated(), Condition("equal", (1, 1), 0, kind="signed"))]
+['means', True, False, True, False]
+"""
+
+COUNTS = """
+>>> [inputs_with(LOW, 5), inputs_with(LOW, 1), inputs_with(SUM, 3), inputs_making(ADD, SUM, 3), inputs_for(ADD, ("011",)), outputs_of(TOP, 4), outputs_of(ADD, 3), ones_of(ODD, 2), ones_of(ADD, 1)]
+[4, 2, 36, 36, 8, 5, 8, (4,), (2,)]
+>>> [inputs_for(TOP, ("110",)), input_for(TOP, ("110",)), inputs_for(TOP, ("010",)), ADD(input_for(ADD, ("0101",))), outputs_of(HALF, 0), inputs_with(~EVEN, 300) == 2 ** 299]
+[0, None, 2, ('0101',), 1, True]
+"""
+
+PAIRS = """
+>>> GRAY = behind(together(copied(1), HALF), gate(2, "0110"))
+>>> [GRAY(("0110",)), is_one_to_one(GRAY), is_one_to_one(negated()), is_one_to_one(ADD), is_one_to_one(ODD), [len(words[0]) for words in same_inputs(ODD)], same_inputs(times(3))]
+[('1010',), True, True, False, False, [2, 2], None]
+>>> [is_one_paper(copied(1), ("one", ((0, 0, 0, 0, 0),))), is_one_paper(ODD, ("same", ("01",), ("10",))), is_one_paper(ODD, ("same", ("01",), ("01",))), one_paper(later("0"))[0], one_paper(TOP)[0]]
+[True, True, False, 'same', 'same']
+"""
+
+ONTO = """
+>>> [is_onto(ADD), is_onto(GRAY), is_onto(later("0")), missing_output(later("0")), is_onto(picked(1, (0, 0))), len(missing_output(TOP)[0]), input_for(GRAY, ("1010",)), input_for(later("0"), ("10",))]
+[True, True, False, ('1',), False, 2, ('0110',), None]
+>>> [left_set(HALF, ("",)), left_set(HALF, ("1",)), left_set(later("0"), ("1",)), is_onto_paper(copied(1), ("onto", (((0, 0),),))), is_onto_paper(TOP, ("missing", ("11",))), is_onto_paper(ADD, ("missing", ("1",)))]
+[((0, 0), (0, 1)), ((0, 1),), (), True, True, False]
+"""
+
 
 class Examples(Checks):
     def check_stage(self, text):
@@ -82,3 +155,27 @@ class Examples(Checks):
 
     def test_sides(self):
         self.check_stage(SIDES)
+
+    def test_joined(self):
+        self.check_stage(JOINED)
+
+    def test_programs(self):
+        self.check_stage(PROGRAMS)
+
+    def test_conditions(self):
+        self.check_stage(CONDITIONS)
+
+    def test_decided(self):
+        self.check_stage(CONDITIONS + DECIDED)
+
+    def test_meaning(self):
+        self.check_stage(CONDITIONS + MEANING)
+
+    def test_counts(self):
+        self.check_stage(CONDITIONS + COUNTS)
+
+    def test_pairs(self):
+        self.check_stage(PAIRS)
+
+    def test_onto(self):
+        self.check_stage(PAIRS + ONTO)

@@ -184,8 +184,37 @@ class Language(unittest.TestCase):
                     for sign, side in zip(node.ops, node.comparators):
                         if isinstance(sign, (ast.Is, ast.IsNot)):
                             self.assertIn(getattr(side, "value", 0), (None, True, False), where)
+                if isinstance(node, ast.Starred):
+                    self.assertIsInstance(node.value, (ast.Name, ast.Attribute, ast.List, ast.Tuple), where)
+                if isinstance(node, ast.Call) and isinstance(node.func, ast.Name):
+                    self.check_call(node, where)
                 if isinstance(node, ast.Raise) and node.exc is not None:
                     self.assertIsInstance(node.exc, ast.Call, where)
+
+    def check_call(self, node, where):
+        """Whether views and the like are iterated on the spot, and `key=` and `reversed` are as told."""
+        lazy = ("zip", "enumerate", "reversed", "range", "map")
+        inner = [part for part in node.args if isinstance(part, ast.Call) and isinstance(part.func, ast.Name)
+                 and part.func.id in lazy]
+        if inner and not (node.func.id == "reversed" and inner[0].func.id == "range"):
+            self.assertIn(node.func.id, ("list", "tuple", "dict", "sorted", "sum", "any", "all", "enumerate", "zip",
+                                         "bytes", "min", "max"), where)
+        for keyword in node.keywords:
+            if keyword.arg == "key":
+                self.assertIsInstance(keyword.value, (ast.Lambda, ast.Name), where)
+
+    def test_properties_and_attributes(self):
+        told = {"property": set(), "assigned": set(), "method": set()}
+        for _, tree in trees():
+            for part in [node for node in tree.body if isinstance(node, ast.ClassDef)]:
+                for node in functions(part):
+                    marks = [mark.id for mark in node.decorator_list if isinstance(mark, ast.Name)]
+                    told["property" if "property" in marks else "method"].add(node.name)
+                    told["assigned"].update([target.attr for target in ast.walk(node)
+                                             if isinstance(target, ast.Attribute) and isinstance(target.ctx, ast.Store)])
+        self.assertFalse(told["property"] & told["assigned"])
+        self.assertFalse(told["property"] & told["method"])
+        self.assertFalse({"keys", "items", "values"} & (told["property"] | told["assigned"] | told["method"]))
 
 
 if __name__ == "__main__":

@@ -22,6 +22,11 @@ def is_within(value, low, high):
     return is_whole(value) and low <= value <= high
 
 
+def is_ascending(parts):
+    """Whether the parts of a tuple, or of a list, are ascending."""
+    return all([one < parts[at + 1] for at, one in enumerate(parts[:-1])])
+
+
 def need_number(value, low, high):
     """Raise unless a value is an integer from a low one to a high one."""
     if not is_within(value, low, high):
@@ -84,10 +89,20 @@ def is_name(value):
 def columns(lines):
     """All columns of so many bits, ascending."""
     need_number(lines, 1, MAX_LINES)
+    return columns_with(lines)
+
+
+def columns_with(many):
+    """All columns of so many bits, ascending, also of more bits than an input has lines."""
     found = [""]
-    for _ in range(lines):
+    for _ in range(many):
         found = [column + bit for column in found for bit in "01"]
     return tuple(found)
+
+
+def column_sum(factors, column):
+    """The sum of the factors at which a column has the bit 1."""
+    return sum([factor for factor, bit in zip(factors, column) if bit == "1"])
 
 
 def columns_of(words):

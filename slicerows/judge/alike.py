@@ -1,6 +1,6 @@
 """Whether two rows make the same outputs at all widths."""
 
-from slicerows.base.bits import is_input, is_within
+from slicerows.base.bits import is_ascending, is_input, is_within
 from slicerows.errors import InvalidOperation
 from slicerows.judge.together import pair_ways, parting_input, views
 from slicerows.rows.rows import need_row
@@ -61,7 +61,7 @@ def are_led_pairs(value, table, other):
     """
     if not isinstance(value, tuple) or not all([is_pair(pair, len(table), len(other)) for pair in value]):
         return False
-    if any([value[at] >= value[at + 1] for at in range(len(value) - 1)]):
+    if not is_ascending(value):
         return False
     held = {pair: True for pair in value}
     led = [both for pair in value for both in zip(table[pair[0]], other[pair[1]])]

@@ -1,7 +1,7 @@
 """The classes of signals, and the row with the fewest signals that is alike."""
 
 from slicerows.base.bits import is_input, need_number
-from slicerows.base.walks import parted
+from slicerows.base.walks import numbers_of, parted
 from slicerows.judge.together import parting_input
 from slicerows.rows.rows import Row, need_row, reached_back, row_with, way_back_to, way_to, ways_of
 
@@ -10,7 +10,7 @@ def left_classes(row):
     """For each signal from the left the number of its class, None if it is not reached."""
     need_row(row)
     order = list(ways_of(row))
-    numbers = {signal: at for at, signal in enumerate(order)}
+    numbers = numbers_of(order)
     steps = [[numbers[led] for led in row.on[signal]] for signal in order]
     rights = reached_back(row)
     classes = parted(steps, [tuple([row.out[signal][right] for right in rights]) for signal in order])
@@ -29,15 +29,18 @@ def first_signals(classes):
     return [classes.index(number) for number in range(many)]
 
 
+def class_table(classes, table):
+    """The table that tells for each class, and each column, the class to which its signals are led."""
+    return tuple([tuple([classes[led] for led in table[head]]) for head in first_signals(classes)])
+
+
 def least_row(row):
     """The row with the fewest signals of both sides that is alike."""
     need_row(row)
     lefts, rights = left_classes(row), right_classes(row)
     heads, tails = first_signals(lefts), first_signals(rights)
-    on = tuple([tuple([lefts[led] for led in row.on[head]]) for head in heads])
-    back = tuple([tuple([rights[led] for led in row.back[tail]]) for tail in tails])
     out = tuple([tuple([row.out[head][tail] for tail in tails]) for head in heads])
-    return row_with(on, back, out)
+    return row_with(class_table(lefts, row.on), class_table(rights, row.back), out)
 
 
 def is_least(value):

@@ -1,6 +1,6 @@
 """Ready rows, each the least one with its outputs."""
 
-from slicerows.base.bits import MAX_LINES, columns, is_within, is_word, need_number
+from slicerows.base.bits import MAX_LINES, column_sum, columns, is_within, is_word, need_number
 from slicerows.errors import InvalidOperation, InvalidWord
 from slicerows.judge.least import least_row
 from slicerows.rows.rows import Row
@@ -32,11 +32,6 @@ def by_sum(factors, signals, sign):
         on.append(tuple([sign * (total >> 1) for total in sums]))
         out.append(tuple([str(total & 1) for total in sums]))
     return one_way(tuple(on), tuple(out))
-
-
-def column_sum(factors, column):
-    """The sum of the factors at which a column has the bit 1."""
-    return sum([factor for factor, bit in zip(factors, column) if bit == "1"])
 
 
 def copied(lines):

@@ -1,0 +1,1 @@
+"""From outputs back to inputs."""

@@ -1,0 +1,1 @@
+"""How many inputs, and how many outputs, there are."""

@@ -1,0 +1,1 @@
+"""Inputs that are told by programs, however many columns they have."""

@@ -1,0 +1,1 @@
+"""Conditions on whole numbers, and what rows mean."""
