@@ -94,8 +94,27 @@ def spoiled(value):
         for at, part in enumerate(value):
             for other in spoiled(part):
                 yield value[:at] + (other,) + value[at + 1:]
+    elif isinstance(value, dict):
+        yield tuple(value.items())
+        for key in value:
+            rest = {other: value[other] for other in value if other != key}
+            yield rest
+            for other in spoiled(value[key]):
+                yield {**rest, key: other}
+            for other in spoiled(key):
+                if is_key(other):
+                    yield {**rest, other: value[key]}
     elif value in (0, 1):
         yield bool(value)
+
+
+def is_key(value):
+    """Whether a value can be a key of a dict."""
+    try:
+        hash(value)
+    except TypeError:
+        return False
+    return True
 
 
 def all_words(lines, width):

@@ -1,15 +1,21 @@
 """The examples of the document, as it prints them."""
 
-from slicerows.back import onto, pairs
+from slicerows.back import back, onto, pairs
 from slicerows.base import bits
 from slicerows.counts import counts
+from slicerows.desk import desk
 from slicerows.far import programs
+from slicerows.faults import faults, lots
 from slicerows.judge import alike, least, sides
 from slicerows.numbers import conditions, decided, meaning
 from slicerows.rows import joined, ready, rows
+from slicerows.text import formats, shell
+from slicerows.ticks import means as mean_times
+from slicerows.ticks import settling
 from tests.helpers import Checks
 
-MODULES = (bits, rows, ready, alike, least, sides, joined, programs, conditions, decided, meaning, counts, pairs, onto)
+MODULES = (bits, rows, ready, alike, least, sides, joined, programs, conditions, decided, meaning, counts, pairs, onto, back,
+           settling, mean_times, faults, lots, desk, formats, shell)
 
 VALUES = """
 >>> ADD = Row(((0, 0, 0, 1), (0, 1, 1, 1)), ((0, 0, 0, 0),), ((("0", "1", "1", "0"),), (("1", "0", "0", "1"),)))
@@ -130,6 +136,87 @@ ONTO = """
 [((0, 0), (0, 1)), ((0, 1),), (), True, True, False]
 """
 
+BACK = """
+>>> [undoing(GRAY)(("1010",)), undoing(negated()) == negated(), undoing(times(3))(("1111",)), undoing(times(3)).lefts, are_alike(undoing(undoing(GRAY)), GRAY), goes_right(undoing(GRAY)), is_undone(GRAY, undoing(GRAY))]
+[('0110',), True, ('1010',), 3, True, True, True]
+>>> [cycle_length(negated(), 8), cycle_length(copied(2), 1), cycle_length(picked(2, (1, 0)), 8), cycle_length(GRAY, 3), is_undone(together(ADD, picked(2, (1,))), together(subtracted(), picked(2, (1,)))), is_undone(later("0"), HALF)]
+[2, 1, 2, None, True, False]
+>>> undoing(ADD)
+raises InvalidOperation
+"""
+
+SETTLING = """
+>>> BACKWARD = later("0")
+>>> [settled_at(BACKWARD, (1, 3), ("0110",)), longest_time(BACKWARD, (1, 3), 5), bounded_time(BACKWARD, (1, 3)), growth_rate(BACKWARD, (1, 3)), settled_at(ADD, (1, 2, 2, 1), ("0011", "0111")), longest_time(ADD, (1, 2, 2, 1), 7)]
+[(0, 1, 3, 3, 1), 3, 3, (0, 1), (0, 1, 3, 1, 1), 14]
+>>> [growth_rate(ADD, (1, 2, 2, 1)), longest_time(ADD, (5, 2, 1, 1), 4), bounded_time(ADD, (1, 1, 1, 1)), is_rate_paper(ADD, (1, 2, 2, 1), ("grows", (0, 1), ("0", "1"), {(0, 1): 0})), is_rate_paper(BACKWARD, (1, 3), ("bounded", {(0, 1): 7})), rate_paper(ADD, (1, 1, 1, 1))[0]]
+[(2, 1), 11, None, True, True, 'grows']
+"""
+
+MEANS = """
+>>> [open_inputs(ADD, 3), mean_time(ADD, (1, 1, 1, 1), 3), limit_time(ADD, (1, 1, 1, 1)), limit_time(ADD, (1, 2, 2, 1)), mean_time(BACKWARD, (1, 3), 0), mean_time(BACKWARD, (1, 3), 9), limit_time(ODD, (1, 1)), mean_time(ODD, (1, 2), 4)]
+[8, (7, 4), (2, 1), (3, 1), (0, 1), (2, 1), None, (6, 1)]
+>>> [len(reset_input(ADD)[0]), reset_input(ODD), reset_paper(ODD), is_reset_paper(ADD, ("resets", ("01", "00"))), is_reset_paper(ADD, ("resets", ("10", "01"))), reset_input(copied(1))]
+[1, None, ('never', ((0, 1),)), True, False, ('',)]
+"""
+
+FAULTS = """
+>>> carry = ("on", 0, "00", 1)
+>>> [len(all_faults(ADD)), is_fault(ADD, carry), is_fault(ADD, ("on", 0, "11", 1)), broken_output(ADD, carry, ("000", "000"), 0), finds(ADD, carry, ("000", "000"), 2), fault_places(ADD, carry, 3), fault_places(ADD, ("out", 1, "00", "0"), 3)]
+[16, True, False, ('010',), False, (0, 1), (1, 2)]
+>>> [len(finding_input(ADD, carry)[0][0]), faults_found(ADD, ("1", "1")), finding_input(again, ("on", 0, "00", 2)), fault_paper(ADD, carry)[0], is_fault_paper(ADD, carry, ("found", ("00", "01"), 0))]
+[2, ((('out', 0, '11', '1'), 0),), None, 'found', True]
+>>> [is_fault_paper(again, ("on", 0, "00", 2), ("never", (0, 1, 2), ((0, 0), (0, 2), (1, 1), (2, 2)))), is_fault_paper(ADD, carry, ("never", (0, 1), ((0, 1),)))]
+[True, False]
+>>> all_faults(HALF)
+raises InvalidOperation
+"""
+
+LOTS = """
+>>> LOST = Row(((0, 2), (0, 2), (2, 2)), ((0, 0),), ((("0", "0"),), (("0", "1"),), (("0", "0"),)))
+>>> slip = ("on", 0, "0", 1)
+>>> [fault_places(LOST, slip, 5), faults_found(LOST, ("0010",))[-2:], are_tests_bounded(ADD), are_tests_bounded(LOST), lot_limit(LOST), test_paper(LOST, slip)[0], test_paper(ADD, carry)[0], test_paper(again, ("on", 0, "00", 2))]
+[(0, 1, 2, 3), ((('out', 0, '1', '1'), 2), (('out', 2, '0', '1'), 3)), True, False, None, 'rare', 'often', ('never',)]
+>>> [is_test_paper(ADD, ("on", 0, "11", 0), ("often", ("", ""), ("10", "10"))), is_test_paper(LOST, slip, ("often", ("",), ("0",))), is_test_paper(LOST, slip, ("rare", {(0, ()): 1, (0, (1,)): 0, (2, ()): 0}))]
+[True, False, True]
+>>> four = (("0", "0"), ("0", "1"), ("1", "0"), ("1", "1"))
+>>> [is_complete(ADD, 1, four), missed(ADD, 1, four[:3]), is_complete(ADD, 6, complete_lot(ADD, 6)), len(complete_lot(ADD, 9)) <= lot_limit(ADD), is_complete(LOST, 0, ())]
+[True, (('out', 0, '11', '1'), 0), True, True, True]
+"""
+
+DESK = """
+>>> shop = Workshop()
+>>> [shop.keep("sum", ADD), shop.keep("twin", again), shop.promise("same", ("alike", "sum", "twin")), shop.promise("oneway", ("left", "twin")), shop.names, shop.labels, str(shop)]
+[None, None, None, None, ('sum', 'twin'), ('oneway', 'same'), 'workshop of 2 rows, 2 promises']
+>>> [shop.set_on("twin", 2, "00", 2), shop.output("twin", ("0110", "1100")), shop.would_break("sum", subtracted()), shop.shrink("twin"), shop["twin"] == ADD, shop.undo(many=2), shop["twin"].lefts, shop.redo(), shop.during(lambda same: same.undo(many=3)), len(shop)]
+[None, ('1001',), ('same',), None, True, 4, 3, 5, 2, 2]
+>>> shop.set_on("sum", 0, "11", 0)
+raises Broken('same')
+>>> shop.drop("sum")
+raises InvalidOperation
+"""
+
+FORMATS = r"""
+>>> [write_row(ADD).split("\n"), write_input(("011", "010")), write_input(("",)), write_condition(LOW & ~EVEN).split("\n")]
+[['lines 2 1', 'signals 2 1', 'on 0 0 0 1', 'on 0 1 1 1', 'back 0 0 0 0', 'out 0 1 1 0', 'out 1 0 0 1'], 'lines 2\nwords 011 010', 'lines 1\nwords', ['most plain 3 1', 'rest plain 0 2 1', 'not', 'and']]
+>>> [write_program(Program(2, (("words", ("1", "1")), ("power", 0, 5)))).split("\n"), read_row(write_row(TOP)) == TOP, write_value(("rare", {(0, (1,)): -2, (): 7}, None, "01")), read_value("{ =ab ( ) }"), read_condition("equal plain 0 1 1 -1") == SUM]
+[['lines 2', 'words 1 1', 'power 0 5'], True, '( =rare { ( ) 7 ( 0 ( 1 ) ) -2 } none =01 )', {'ab': ()}, True]
+>>> read_row("lines 1 1\nsignals 1 1\non 0 0\nback 0 0\nout 0 1\nout")
+raises ParseError(6)
+>>> read_condition("most plain 3 1\nand 2")
+raises ParseError(1)
+"""
+
+SHELL = r"""
+>>> shell = Shell()
+>>> [shell("ready sum added"), shell("ready three times 3"), shell("row copy lines 1 1; signals 1 1; on 0 0; back 0 0; out 0 1"), shell("output sum =0110 =1100"), shell("fewest three"), shell("promise rule means sum wrapped plain 0 1 1 -1"), shell("on sum 0 =11 0"), shell("names")]
+['done', 'done', 'done', '=1001', '3 1', 'done', 'broken rule', 'copy sum three']
+>>> [shell("undoing third three"), shell("behind again three third"), shell("alike again copy"), shell("undoing other sum"), shell("rate sum 1 2 2 1"), shell("slowest sum 7 1 2 2 1"), shell("implied equal plain 2 1 -> most plain 3 1; rest plain 0 2 1; and"), shell("output copy =")]
+['done', 'done', 'yes', 'operation', '2 1', '14', 'yes', '=']
+>>> [shell("ready x gate 1 =01"), shell("show x").split("\n")[4], shell("bounded sum"), shell("alike sum copy"), shell("left far"), shell("output sum =01"), shell("undo 9"), shell("promise rule"), shell("release rule"), shell("labels")]
+['done', 'out 0 1', 'yes', 'operation', 'unknown far', 'input', 'undo 9', 'what', 'done', 'none']
+"""
+
 
 class Examples(Checks):
     def check_stage(self, text):
@@ -179,3 +266,27 @@ class Examples(Checks):
 
     def test_onto(self):
         self.check_stage(PAIRS + ONTO)
+
+    def test_back(self):
+        self.check_stage(PAIRS + BACK)
+
+    def test_settling(self):
+        self.check_stage(SETTLING)
+
+    def test_means(self):
+        self.check_stage(SETTLING + MEANS)
+
+    def test_faults(self):
+        self.check_stage(FAULTS)
+
+    def test_lots(self):
+        self.check_stage(FAULTS + LOTS)
+
+    def test_desk(self):
+        self.check_stage(DESK)
+
+    def test_formats(self):
+        self.check_stage(CONDITIONS + FORMATS)
+
+    def test_shell(self):
+        self.check_stage(SHELL)

@@ -27,6 +27,13 @@ def is_ascending(parts):
     return all([one < parts[at + 1] for at, one in enumerate(parts[:-1])])
 
 
+def is_index_set(value, many):
+    """Whether a value is an ascending tuple of integers from 0 on that are less than a number."""
+    if not isinstance(value, tuple) or not all([is_within(part, 0, many - 1) for part in value]):
+        return False
+    return is_ascending(value)
+
+
 def need_number(value, low, high):
     """Raise unless a value is an integer from a low one to a high one."""
     if not is_within(value, low, high):

@@ -2,7 +2,7 @@
 
 from slicerows.base.bits import are_words, is_whole, is_within, is_word, need_whole, plain, signed
 from slicerows.errors import InvalidCondition, InvalidInput, InvalidNumber, InvalidOperation, InvalidWord, TooMany
-from slicerows.numbers.forms import combined, first_flat, flattened, holds_flat, led_flat, linears_in, nested, written
+from slicerows.numbers.forms import combined, first_flat, flattened, holds_flat, led_flat, nested, written
 from slicerows.numbers.linear import is_met
 
 MAX_FACTOR = 99
@@ -42,12 +42,11 @@ class Condition:
     def __init__(self, rule, factors, number, *, modulus=None, kind="plain"):
         if isinstance(rule, Joined):
             self._rule, self._parts = rule.told
-            self._form = tuple([part for condition in self._parts for part in condition._form] + [self._rule])
+            self._linears = tuple([linear for part in self._parts for linear in part._linears])
         else:
             need_linear(rule, factors, number, modulus, kind)
             self._rule, self._parts = rule, ()
-            self._form = ((rule, factors, number, modulus, kind),)
-        self._linears = tuple(linears_in(self._form))
+            self._linears = ((rule, factors, number, modulus, kind),)
 
     @property
     def rule(self):
@@ -87,7 +86,8 @@ class Condition:
     @property
     def first(self):
         """The first state."""
-        return nested(self._form, first_flat(self._form))
+        form = form_of(self)
+        return nested(form, first_flat(form))
 
     def __call__(self, words):
         return self.is_kept(words)
@@ -97,15 +97,17 @@ class Condition:
         if not are_words(self.lines, words):
             raise InvalidInput("not an input with a word for each factor")
         numbers = [signed(word) if self.kind == "signed" else plain(word) for word in words]
-        return combined(self._form, [is_met(linear, numbers, len(words[0])) for linear in self._linears])
+        return combined(form_of(self), [is_met(linear, numbers, len(words[0])) for linear in self._linears])
 
     def behind(self, state, column):
         """The state to which a column leads a state."""
-        return nested(self._form, led_flat(self._form, self._flat(state, column), column))
+        form = form_of(self)
+        return nested(form, led_flat(form, self._flat(form, state, column), column))
 
     def holds_at(self, state, column):
         """Whether it holds at a state and a last column."""
-        return holds_flat(self._form, self._flat(state, column), column)
+        form = form_of(self)
+        return holds_flat(form, self._flat(form, state, column), column)
 
     def keeps(self, numbers):
         """Whether it holds for numbers."""
@@ -115,7 +117,7 @@ class Condition:
             raise InvalidOperation("not numbers of its kind")
         if any([linear[0] == "wrapped" for linear in self._linears]):
             raise InvalidOperation("the rule wrapped asks for a width")
-        return combined(self._form, [is_met(linear, numbers, 0) for linear in self._linears])
+        return combined(form_of(self), [is_met(linear, numbers, 0) for linear in self._linears])
 
     def __and__(self, other):
         return Condition(self._joined("and", other), None, None)
@@ -127,7 +129,7 @@ class Condition:
         return Condition(Joined("not", (self,)), None, None)
 
     def __eq__(self, other):
-        return isinstance(other, Condition) and self._form == other._form
+        return isinstance(other, Condition) and form_of(self) == form_of(other)
 
     def __len__(self):
         return len(self._linears)
@@ -136,7 +138,7 @@ class Condition:
         return f"condition on {self.lines} words, {len(self._linears)} parts"
 
     def __repr__(self):
-        return str(written(self._form))
+        return str(written(form_of(self)))
 
     def _joined(self, rule, other):
         """Both conditions joined by a rule."""
@@ -146,9 +148,9 @@ class Condition:
             raise TooMany(MAX_CONDITIONS)
         return Joined(rule, (self, other))
 
-    def _flat(self, state, column):
+    def _flat(self, form, state, column):
         """The flat state of a nested one, where a column is passed, too."""
-        flat = flattened(self._form, state)
+        flat = flattened(form, state)
         if flat is None:
             raise InvalidOperation("not a state of this condition")
         if not is_word(column) or len(column) != self.lines:
@@ -163,5 +165,12 @@ def need_condition(value):
 
 
 def form_of(condition):
-    """The form of a condition."""
-    return condition._form
+    """The form of a condition. It is not kept in each, because a long chain of "not" would have one for each link."""
+    form = []
+    left = [condition]
+    while len(left) > 0:
+        last = left[-1]
+        left = left[:-1] + list(last.parts)
+        form.append(last.rule if last.parts else last._linears[0])
+    # What stood ahead of its parts, and ahead of the second part the first one, stands behind them now.
+    return tuple(form[::-1])

@@ -1,0 +1,1 @@
+"""A workshop of rows and of promises on them."""

@@ -1,0 +1,1 @@
+"""Broken cells, and the tests that find them."""

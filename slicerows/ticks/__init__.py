@@ -1,0 +1,1 @@
+"""How long signals take until they have settled."""
