@@ -208,6 +208,9 @@ class Workshop:
     def __str__(self):
         return f"workshop of {len(self.moment.rows)} rows, {len(self.moment.told)} promises"
 
+    def __repr__(self):
+        return f"Workshop of {self.moment.rows!r} and {self.moment.told!r}"
+
     def _need_known(self, name):
         """Raise unless a value is a name that has a row."""
         if not has_row(self.moment.rows, name):

@@ -6,6 +6,7 @@ from slicerows.base.heights import climbed
 from slicerows.errors import InvalidOperation
 from slicerows.faults.faults import all_faults, arrivals, found_at, need_both, need_leftward, places_mask, right_signal
 from slicerows.faults.nodes import Leads, Nodes, turn_in
+from slicerows.faults.splits import Splits
 from slicerows.rows.rows import input_at, way_to
 
 MAX_LOT = 60
@@ -30,7 +31,7 @@ def put_found(found, row, words):
 def findable(row, width):
     """The pairs of a fault and of the mask of the places at which some input of a width finds it, ascending."""
     arrived = arrivals(row, width)
-    splits = Leads(row).splits
+    splits = Splits(row)
     return [(fault, places_mask(fault, arrived, splits, row, width)) for fault in all_faults(row)]
 
 
@@ -71,36 +72,38 @@ class Tester:
         return many if many <= self.row.lefts else None
 
     def tested(self, fault):
-        """The form of the paper of a fault, and what it tells: a number, the places of a turn, or ranks of nodes."""
+        """The form of the paper of a fault, and what this tells: the greatest place, or the places of a turn."""
         many = self.places_of(fault)
         if many == 0:
             return "never", None
         if many is not None:
             return "few", many - 1
+        _, edges = Nodes(self.leads, fault).walk()
+        _, rings = climbed(edges)
+        return ("often", turn_in(edges, rings)) if rings else ("rare", None)
+
+    def ranks(self, fault):
+        """The ranks under the nodes, ascending, for a fault of the last form."""
         nodes, edges = Nodes(self.leads, fault).walk()
-        heights, rings = climbed(edges)
-        if rings:
-            return "often", turn_in(edges, rings)
-        return "rare", {node: max(heights) - height for node, height in zip(nodes, heights)}
-
-
-def told_node(node):
-    """The node as the document tells it, with a tuple of signals."""
-    return (node[0], tuple(bits_of(node[1])))
+        heights, _ = climbed(edges)
+        top = max(heights)
+        # A node has as great a height as many counting steps can lead there, so behind these the ranks are less.
+        ranks = {(node[0], tuple(bits_of(node[1]))): top - height for node, height in zip(nodes, heights)}
+        return {node: ranks[node] for node in sorted(list(ranks))}
 
 
 def test_paper(row, fault):
     """A paper that tells which tests a fault needs."""
     need_both(row, fault)
-    form, told = Tester(row).tested(fault)
+    tester = Tester(row)
+    form, told = tester.tested(fault)
     if form == "never":
         return (form,)
     if form == "few":
         return (form, told)
     if form == "often":
         return (form, way_to(row, fault[1]), input_at(row, told))
-    ranks = {told_node(node): told[node] for node in told}
-    return (form, {node: ranks[node] for node in sorted(list(ranks))})
+    return (form, tester.ranks(fault))
 
 
 def is_node(row, value):
@@ -172,6 +175,7 @@ def is_test_paper(row, fault, value):
 
 def all_tested(row):
     """What tells of the faults of a row which tests they need, and for each fault, in order, its form and the rest."""
+    need_leftward(row)
     tester = Tester(row)
     return tester, [(fault, tester.tested(fault)) for fault in all_faults(row)]
 

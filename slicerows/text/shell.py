@@ -98,3 +98,6 @@ class Shell:
     def workshop(self):
         """A twin of the workshop."""
         return self.shop.twin()
+
+    def __repr__(self):
+        return f"Shell over {self.shop!r}"
