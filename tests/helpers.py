@@ -6,10 +6,12 @@ import random
 import unittest
 
 from slicerows import errors
+from slicerows.desk.desk import Workshop
 from slicerows.far.programs import Program
 from slicerows.numbers.conditions import Condition
 from slicerows.rows.ready import highest, parity, sooner
 from slicerows.rows.rows import Row, row_with
+from slicerows.text.shell import Shell
 
 ADD = Row(((0, 0, 0, 1), (0, 1, 1, 1)), ((0, 0, 0, 0),), ((("0", "1", "1", "0"),), (("1", "0", "0", "1"),)))
 HALF = sooner("0")
@@ -32,7 +34,7 @@ def deep(value, depth):
 
 KINDS = (None, True, False, "", "x", "0 1", "01\n", "~" * 5000, (), (None,), [], [0], ["0"], {}, {0: "0"}, {"0": 0},
          -1, 10 ** 199, 10 ** 200, -10 ** 200, 10 ** 299, (True,), ((),), ADD, (ADD,), [ADD], FAR, LOW, (LOW, FAR),
-         deep(0, 10), deep("0", 9))
+         deep(0, 10), deep("0", 9), Workshop(), (Workshop(),), Shell())
 
 
 def not_numbers(low, high):
