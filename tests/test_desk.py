@@ -295,7 +295,7 @@ class Promises(Shops):
             ("alike", "sum", None), ("alike", ["sum"], "twin"), ["alike", "sum", "twin"], ("left",), ("left", "sum", "sum"), ("left", "none"),
             ("left", None), ("left", ("sum",)), ("single", "sum", None), ("single", []), ("means", "sum"), ("means", "sum", None), ("means", SUM, "sum"),
             ("means", "none", SUM), ("means", "sum", "twin"), ("means", "sum", SUM, SUM), ("Left", "sum"), ("right", "sum"), (None, "sum"),
-            (True, "sum"), (("left",), "sum"), ("left", "same"), {"left": "sum"}, "left", ("left", "SUM"), ("means", "sum", ADD)]
+            (True, "sum"), (("left",), "sum"), ("left", "same"), ("left", "sum", SUM), ("", "sum", SUM), (0, "sum", SUM), ("alike", "sum", SUM), {"left": "sum"}, "left", ("left", "SUM"), ("means", "sum", ADD)]
         self.checks_in_order(shop.promise, ("x", InvalidName, not_names()), (("left", "sum"), InvalidOperation, wrong))
         self.holds([shop.promise("x", ("left", "sum")), len(shop.labels)], [None, 5])
 
@@ -320,6 +320,8 @@ class Promises(Shops):
         self.keeps(shop, TooMany, shop.promise, "i", ("alike", "x", "x"))
         self.keeps(shop, InvalidOperation, shop.promise, "a", ("left", "x"))
         self.keeps(shop, InvalidOperation, shop.promise, "i", ("means", "x", SUM))
+        shop.keep("sum", ADD)
+        self.keeps(shop, InvalidOperation, shop.promise, "i", ("alike", "x", "sum"))
         with self.assertRaises(TooMany) as caught:
             shop.promise("i", ("single", "x"))
         self.holds(caught.exception.limit, 8)

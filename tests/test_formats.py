@@ -346,6 +346,10 @@ class Values(Texts):
         self.holds(read_value(write_value(nested(8))), nested(8))
         self.refuses(InvalidOperation, write_value, nested(9))
         self.refuses(InvalidOperation, write_value, nested(8, {0: ()}))
+        for value in ({}, {0: 1}, {"a": None}):
+            self.refuses(InvalidOperation, write_value, nested(9, value))
+            self.holds(read_value(write_value(nested(8, value))), nested(8, value))
+        self.parses(read_value, " ".join(["("] * 8 + ["{ }"] + [")"] * 8), 0)
         self.holds(write_value(nested(7, {0: ()})), "( ( ( ( ( ( { 0 ( ) } ) ) ) ) ) )")
         self.holds(write_value({nested(7): nested(7)}).count("("), 14)
         self.refuses(InvalidOperation, write_value, {nested(8): 0})

@@ -286,6 +286,17 @@ class Papers(Checks):
                    [("few", 0), ("few", 1), ("few", 0)])
         self.holds(paper_of_tests(row, ("out", 3, "1", "1"))[0], "often")
 
+    def test_rings(self):
+        # A signal that comes once in each round comes endlessly often, however late it comes first.
+        for many in (2, 3, 5, 8):
+            row = Row(tuple([((at + 1) % many,) * 2 for at in range(many)]), ((0, 0),), ((("0", "1"),),) * many)
+            for signal in range(many):
+                fault = ("out", signal, "0", "1")
+                paper = paper_of_tests(row, fault)
+                self.holds([paper[0], len(paper[1][0]), len(paper[2][0])], ["often", signal, many])
+                self.judges(self.judge(row, fault), ("few", signal), False)
+        self.holds(lot_limit(row), 2 * 8 * 8)
+
     def test_a_fault_that_is_not_found_where_it_is_not_reached(self):
         for fault in (("out", 3, "0", "0"), ("on", 3, "0", 1), ("on", 3, "1", 1), ("on", 0, "0", 2)):
             self.holds(paper_of_tests(QUIET, fault), ("never",))
@@ -493,6 +504,18 @@ class Bounds(Checks):
                 sizes.append(len(lot))
             if limit is not None:
                 self.assertLessEqual(max(sizes), limit)
+
+    def test_places_that_only_one_input_comes_to(self):
+        # A tree: each of its four last signals is reached in one way, and each of their two columns calls for an input.
+        on = ((1, 2), (3, 4), (5, 6), (7, 7), (7, 7), (7, 7), (7, 7), (7, 7))
+        row = Row(on, ((0, 0),), ((("0", "0"),),) * 8)
+        self.holds([paper_of_tests(row, ("out", signal, "1", "1")) for signal in (0, 1, 6)], [("few", 0), ("few", 1), ("few", 2)])
+        self.assertGreaterEqual(lot_limit(row), 8)
+        for width in (3, 4, 60):
+            lot = complete_lot(row, width)
+            self.holds([is_complete(row, width, lot), 8 <= len(lot) <= lot_limit(row)], [True, True])
+        every = tuple(all_words(1, 3))
+        self.holds([is_complete(row, 3, every), [is_complete(row, 3, every[:at] + every[at + 1:]) for at in range(8)]], [True, [False] * 8])
 
     def test_limits_are_enough(self):
         # A least complete lot of a small width is no greater than the limit.

@@ -279,6 +279,12 @@ class Papers(Checks):
                               (((2, 3), (0, 1)), False), (((0, 1), (0, 2), (0, 3), (1, 2), (1, 3), (2, 3)), True)):
             self.judges(self.judge(row), ("never", pairs), wanted)
 
+    def test_tuples_that_are_no_pairs(self):
+        row = Row(((0, 0), (1, 1), (2, 2)), ((0, 0),), ((("0", "0"),),) * 3)
+        for pairs, wanted in ((((0, 1),), True), (((0, 1, 2),), False), (((0,),), False), (((),), False), (((0, 1), (0, 1, 2)), False),
+                              (((0, 1), (1, 2)), True)):
+            self.judges(self.judge(row), ("never", pairs), wanted)
+
     def test_spoiled_papers(self):
         for row in (ODD, ADD, BACKWARD, copied(1), Row(((0, 0), (1, 1), (2, 2)), ((0, 0),), ((("0", "0"),),) * 3)):
             for value in spoiled(reset_paper(row)):

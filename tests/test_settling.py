@@ -230,6 +230,38 @@ class Longest(Checks):
             self.holds([len(words[0]), max(settled_at(row, delays, words))], [4000, longest_time(row, delays, 4000)])
         self.holds(longest_time(ENOUGH, (1, 2, 3, 9), 4000), 36000)
 
+    def test_sums_that_are_left_behind_late(self):
+        # Columns 00 lead along a chain, and at its end 01 goes on; or 10 goes on from the start, which is less at first.
+        for long, first, second in ((4, 4, 5), (6, 7, 8), (3, 1, 2), (5, 5, 6), (1, 8, 8)):
+            sink, end, other = 0, long + 1, long + 2
+            on = [(sink,) * 4]
+            on += [(at + 1 if at < end else sink, end if at == end else sink, sink, sink) for at in range(1, end + 1)]
+            on.append((sink, sink, other, sink))
+            row = row_with(tuple(on), ((0,) * 4,), ((("0",) * 4,),) * len(on))
+            delays = (9, first, second, 1)
+            self.holds(growth_rate(row, delays), (second, 1))
+            for width in list(range(1, 45)) + [399, 4000]:
+                most = width - 1
+                wanted = 9 + max(9 * min(most, long) + first * max(most - long, 0), second * most)
+                words = slowest_input(row, delays, width)
+                self.holds([longest_time(row, delays, width), max(settled_at(row, delays, words))], [wanted, wanted])
+
+    def test_sums_that_come_to_an_end(self):
+        # A chain of the greatest delay is soon overtaken by rings of two and three columns.
+        for many, ring, delays in ((6, 2, (9, 1, 4, 1)), (9, 3, (9, 2, 5, 1)), (2, 3, (9, 8, 8, 1)), (8, 2, (9, 8, 1, 1))):
+            head = many + 1
+            on = [(0,) * 4] + [(at + 1 if at < many else 0, 0, 0, 0) for at in range(1, many + 1)]
+            on += [(0, head + (at + 1) % ring, 0, 0) if at else (0, 0, head + 1, 0) for at in range(ring)]
+            row = row_with(tuple(on), ((0,) * 4,), ((("0",) * 4,),) * len(on))
+            told = [delays[2]] + [delays[1]] * (ring - 1)
+            self.holds(Fraction(*growth_rate(row, delays)), Fraction(sum(told), ring))
+            for width in list(range(1, 40)) + [3999, 4000]:
+                most = width - 1
+                round_about = max([sum([told[(start + at) % ring] for at in range(most % ring)]) for start in range(ring)])
+                wanted = 9 + max(9 * min(most, many - 1), sum(told) * (most // ring) + round_about)
+                words = slowest_input(row, delays, width)
+                self.holds([longest_time(row, delays, width), max(settled_at(row, delays, words))], [wanted, wanted])
+
     def test_growth(self):
         # From some width on, it grows by a fixed number for a fixed number of further cells.
         for row, delays in cases(310, 60, 5) + [(ADD, (1, 7, 2, 1)), (times(7), (1, 4)), (behind(times(3), times(5)), (1, 2))]:
@@ -397,7 +429,10 @@ class Papers(Checks):
     def test_a_key_left_out_and_one_too_many(self):
         row = Row(tuple([(2 * p % 8, (2 * p + 1) % 8) for p in range(8)]), ((0, 0),), ((("0", "0"),),) * 8)
         heights = rate_paper(row, (1, 2))[1]
+        lowest = min(heights.values())
         for signals in heights:
+            if heights[signals] > lowest:
+                self.judges(self.judge(row, (1, 2)), ("bounded", {**heights, signals: heights[signals] - 1}), False)
             self.judges(self.judge(row, (1, 2)), ("bounded", {told: heights[told] for told in heights if told != signals}), False)
         for signals in ((), (0,), (0, 1), (0, 7), (0, 1, 2, 3, 4, 5, 6, 8), "01", 0, None):
             more = {**heights, signals: 10 ** 9}

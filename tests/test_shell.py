@@ -95,6 +95,11 @@ class Commands(Checks):
                              ("undo 99", "undo 99"), ("undo", "done"), ("drop half", "done"), ("redo", "undo 1"), ("undo 10000", "undo 10000")):
             self.answers(shell, line, wanted)
 
+    def test_one_call_back_if_no_number_is_told(self):
+        shell = stocked()
+        self.holds([shell("undo"), shell("labels"), shell("undo"), shell("labels"), shell("redo"), shell("labels"), shell("undo 2"), shell("labels"), shell("redo 3"),
+                    shell("labels")], ["done", "only rule same", "done", "rule same", "done", "only rule same", "done", "same", "done", "only rule same way"])
+
     def test_promises(self):
         shell = stocked()
         self.holds([shell("labels"), shell("release way"), shell("labels")], ["only rule same way", "done", "only rule same"])
@@ -234,7 +239,8 @@ class Refused(Checks):
                      "on sum x =11 1", "out sum 0 0 =11", "row", "row x", "row x ", "implied", "implied most plain 1 1", "implied -> most plain 1 1",
                      "implied most plain 1 1 ->", "implied most plain 1 1 -> ", "implied most plain 1 1 ->most plain 1 1", "implied a -> b -> c",
                      "implied most plain 1 1 -> most plain 1 1 -> most plain 1 1", "implied most plain 1 1 - > most plain 1 1", "promise left x sum", "workshop", "twin x",
-                     "keep x sum", "set_on sum 0 =11 1", "repeated x sum two", "repeated x sum 1.0", "promise x means sum " + RULE + ";", "show\tsum", "left", "left sum sum"):
+                     "keep x sum", "set_on sum 0 =11 1", "repeated x sum two", "repeated x sum 1.0", "promise x means sum " + RULE + ";", "show\tsum", "left", "left sum sum", "show ", "drop ", "shrink ", "ready  added", "least x ",
+                     "promise  left sum", "fewest "):
             self.holds((line, shell(line)), (line, "what"))
         self.holds(state_of(shell.workshop()), before)
 

@@ -17,7 +17,7 @@ def has_row(rows, value):
 
 def is_promise(rows, value):
     """Whether a value is a promise on names that have rows."""
-    if not isinstance(value, tuple) or not 2 <= len(value) <= 3 or not isinstance(value[0], str):
+    if not isinstance(value, tuple) or not 2 <= len(value) <= 3:
         return False
     if not has_row(rows, value[1]):
         return False

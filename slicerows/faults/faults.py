@@ -19,15 +19,9 @@ def need_leftward(row):
 
 
 def need_fault(row, value):
-    """Raise unless a value is a fault of a row."""
+    """Raise unless two values are a row that goes from the left and a fault of it."""
     if not is_fault(row, value):
         raise InvalidFault("not a fault of the row")
-
-
-def need_both(row, fault):
-    """Raise unless two values are a row that goes from the left and a fault of it."""
-    need_leftward(row)
-    need_fault(row, fault)
 
 
 def is_fault(row, value):
@@ -72,7 +66,7 @@ def broken_run(row, fault, words, place):
 
 def need_placed(row, fault, words, place):
     """Raise unless the values are a row from the left, a fault, an input and an index of it."""
-    need_both(row, fault)
+    need_fault(row, fault)
     need_words(row.inputs, words)
     need_number(place, 0, len(words[0]) - 1)
 
@@ -105,7 +99,7 @@ def finding_tail(row, splits, fault):
 
 def finding_input(row, fault):
     """Any input of least width that finds a fault, and the place of this, or None."""
-    need_both(row, fault)
+    need_fault(row, fault)
     ways = ways_of(row)
     tail = finding_tail(row, Splits(row), fault)
     _, signal, column, _ = fault
@@ -136,7 +130,7 @@ def places_mask(fault, arrived, splits, row, width):
 
 def fault_places(row, fault, width):
     """The places at which some input of a width finds a fault, ascending."""
-    need_both(row, fault)
+    need_fault(row, fault)
     need_number(width, 0, MAX_PLACES)
     mask = places_mask(fault, arrivals(row, width), Splits(row), row, width)
     return tuple([place for place in range(width) if (mask >> place) & 1])
@@ -210,7 +204,7 @@ def are_same_pairs(row, first, value):
 
 def is_fault_paper(row, fault, value):
     """Whether a value is a paper that an input finds a fault, or that none does."""
-    need_both(row, fault)
+    need_fault(row, fault)
     if not isinstance(value, tuple) or len(value) != 3:
         return False
     if value[0] == "found":

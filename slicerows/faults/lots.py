@@ -4,7 +4,7 @@ from slicerows.back.sets import bits_of, mask_of
 from slicerows.base.bits import columns_in, is_index_set, is_input, is_whole, is_within, need_number
 from slicerows.base.heights import climbed
 from slicerows.errors import InvalidOperation
-from slicerows.faults.faults import all_faults, arrivals, found_at, need_both, need_leftward, places_mask, right_signal
+from slicerows.faults.faults import all_faults, arrivals, found_at, need_fault, need_leftward, places_mask, right_signal
 from slicerows.faults.nodes import Leads, Nodes, turn_in
 from slicerows.faults.splits import Splits
 from slicerows.rows.rows import input_at, way_to
@@ -94,7 +94,7 @@ class Tester:
 
 def test_paper(row, fault):
     """A paper that tells which tests a fault needs."""
-    need_both(row, fault)
+    need_fault(row, fault)
     tester = Tester(row)
     form, told = tester.tested(fault)
     if form == "never":
@@ -159,8 +159,8 @@ def is_kept_apart(leads, fault, places):
 
 def is_test_paper(row, fault, value):
     """Whether a value is a paper that tells which tests a fault needs."""
-    need_both(row, fault)
-    if not isinstance(value, tuple) or not 1 <= len(value) <= 3 or not isinstance(value[0], str):
+    need_fault(row, fault)
+    if not isinstance(value, tuple) or not 1 <= len(value) <= 3:
         return False
     tester = Tester(row)
     many = tester.places_of(fault)
@@ -246,9 +246,10 @@ class Builder:
 
     def built(self, fault, at, turn):
         """An input that finds a fault at a place. It goes through a turn as long as there is room for all ends."""
-        border = self.until if fault[0] == "out" else max(at + 1, self.until - self.farthest)
-        many = border - at if turn else 1
-        turned = [turn[index % len(turn)] for index in range(many)] if turn else [int(fault[2], 2)]
+        turned = [int(fault[2], 2)]
+        if turn:
+            border = self.until if fault[0] == "out" else max(at + 1, self.until - self.farthest)
+            turned = [turn[index % len(turn)] for index in range(border - at)]
         found = self.head(fault[1], at) + turned
         found = found + self.tail(fault, turned[1:])
         return input_at(self.tester.row, found + [0] * (self.until - len(found)))

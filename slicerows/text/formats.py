@@ -255,38 +255,30 @@ def atom_of(sign):
     return (int(sign), False) if is_number(sign) else None
 
 
-def ended(begun, sign, worths):
-    """The tuple or the dict that begins and ends with these signs, and whether a dict stands in it; or None.
-
-    Its parts are told likewise.
-    """
+def ended(sign, worths):
+    """The tuple or dict that ends with a sign, and whether a dict stands in it; or None. Its parts are told so, too."""
     values = [value for value, _ in worths]
-    if begun == "(" and sign == ")":
+    if sign == ")":
         return (tuple(values), any([mixed for _, mixed in worths]))
-    if begun != "{" or sign != "}" or len(values) & 1 == 1 or any([mixed for _, mixed in worths[::2]]):
+    if any([mixed for _, mixed in worths[::2]]):
         return None
     return (dict(zip(values[::2], values[1::2])), True)
 
 
 def value_in(signs):
-    """The value that signs tell, in a tuple, or None."""
-    begun = []
+    """The first value that signs tell, in a tuple, or None. What else they tell is missing in the text of the value."""
     worths = [[]]
     for sign in signs:
         if sign in ("(", "{"):
-            begun.append(sign)
             worths.append([])
-            if len(begun) > MAX_DEEP:
+            if len(worths) > MAX_DEEP + 1:
                 return None
             continue
-        if sign in (")", "}"):
-            found = ended(begun.pop(), sign, worths.pop()) if begun else None
-        else:
-            found = atom_of(sign)
-        if found is None:
+        found = ended(sign, worths.pop()) if sign in (")", "}") else atom_of(sign)
+        if found is None or not worths:
             return None
         worths[-1].append(found)
-    return (worths[0][0][0],) if not begun and len(worths[0]) == 1 else None
+    return worths[0][0][:1] if worths[0] else None
 
 
 def read_value(text):

@@ -90,12 +90,12 @@ def next_worths(lines, worths):
     return [mark >> 4 for mark in marked], "".join([str(mark & 15) for mark in marked])
 
 
-def is_steady(lines, grown, before):
-    """Whether sums go on to grow as they just did, and as they did before, in as many columns.
+def is_steady(lines, grown):
+    """Whether sums that grew by these numbers, again and again, go on to do so.
 
     They do if those that grow do so by one number, and those that do not grow come from one another only.
     """
-    if grown != before or len(set([many for many in grown if many > 0])) > 1:
+    if len(set([many for many in grown if many > 0])) > 1:
         return False
     return not any([grown[led] > 0 for many, line in zip(grown, lines) if many == 0 for _, led, _ in line])
 
@@ -103,20 +103,17 @@ def is_steady(lines, grown, before):
 def slowest_choices(lines, most, period):
     """For each number of columns up to a greatest one the first columns of those with the greatest sums."""
     worths = [0] * len(lines)
-    before = None
-    steady = 0
+    grown = []
     choices = []
     while len(choices) < most:
         ahead = worths
         for _ in range(period):
             worths, line = next_worths(lines, worths)
             choices.append(line)
-        grown = [now - then for now, then in zip(worths, ahead)]
-        steady = steady + 1 if is_steady(lines, grown, before) else 0
-        # The second time sums that grow have left those behind that do not: there is no choice between such any more.
-        if steady == 2:
+        grown = grown[-2:] + [[now - then for now, then in zip(worths, ahead)]]
+        # Two periods show that the sums go on so; in the third one none of the others is as great any more.
+        if len(grown) == 3 and grown[0] == grown[1] == grown[2] and is_steady(lines, grown[2]):
             return choices + choices[-period:] * (most // period)
-        before = grown
     return choices
 
 

@@ -79,14 +79,14 @@ class Equations:
 
 
 def fraction_of(rest, modulus, most):
-    """The fraction of integers up to a greatest one that has a rest modulo a modulus."""
+    """The fraction of integers from 0 up to a greatest one that has a rest modulo a modulus."""
     one, other = modulus, rest
     first, second = 0, 1
     while other > most:
         many = one // other
         one, other = other, one - many * other
         first, second = second, first - many * second
-    return (other, second) if second > 0 else (-other, -second)
+    return (other, second)
 
 
 def first_fraction(lines, right, equations, most):
