@@ -5,7 +5,7 @@ from slicerows.base.bits import columns_in, is_index_set, is_input, is_whole, is
 from slicerows.base.heights import climbed
 from slicerows.errors import InvalidOperation
 from slicerows.faults.faults import all_faults, arrivals, found_at, need_fault, need_leftward, places_mask, right_signal
-from slicerows.faults.nodes import Leads, Nodes, turn_in
+from slicerows.faults.nodes import MAX_NODES, Leads, Nodes, turn_in
 from slicerows.faults.splits import Splits
 from slicerows.rows.rows import input_at, way_to
 
@@ -78,8 +78,13 @@ class Tester:
             return "never", None
         if many is not None:
             return "few", many - 1
-        _, edges = Nodes(self.leads, fault).walk()
+        nodes = Nodes(self.leads, fault)
+        # Most turns are found at once; all nodes are looked at only if that fails, or if there might be too many.
+        edges = nodes.few_edges() if self.leads.most <= MAX_NODES else []
         _, rings = climbed(edges)
+        if not rings:
+            _, edges = nodes.walk()
+            _, rings = climbed(edges)
         return ("often", turn_in(edges, rings)) if rings else ("rare", None)
 
     def ranks(self, fault):

@@ -9,6 +9,7 @@ from slicerows.base.walks import explored, numbers_of, steps_to
 from slicerows.faults.splits import Splits
 
 MAX_NODES = 20000
+FEW_NODES = 100
 
 
 class Leads:
@@ -24,6 +25,8 @@ class Leads:
         # For each signal and each column, by its place, the mask of the signals that make the same output column.
         self.same = [[mask_of([other for other in signals if row.out[other][0][place] == made])
                       for place, made in enumerate(line[0])] for line in row.out]
+        # No node to which steps lead has a signal beside one of its class.
+        self.most = sum([1 << (row.lefts - len(bits_of(mask))) for mask in self.alike])
         # Most nodes are asked for again and again, for fault after fault.
         self.known = {}
 
@@ -72,10 +75,27 @@ class Nodes:
         return found
 
     def walk(self):
-        """All nodes to which the first one leads, and for each its edges, those of counting steps with the gain 1."""
+        """All nodes to which the first one leads, and their edges."""
         found = list(explored([(self.signal, 0)], lambda node: self.follow(node), MAX_NODES))
+        return found, self.edges_among(found)
+
+    def few_edges(self):
+        """The edges of a few nodes to which the first one leads, it among them."""
+        found = {(self.signal, 0): True}
+        queue = list(found)
+        at = 0
+        while at < len(queue) < FEW_NODES:
+            for _, led in self.follow(queue[at]):
+                if led not in found:
+                    found[led] = True
+                    queue.append(led)
+            at += 1
+        return self.edges_among(queue)
+
+    def edges_among(self, found):
+        """For each of some nodes the edges to such nodes, by their numbers; those of counting steps have the gain 1."""
         numbers = numbers_of(found)
-        return found, [[(step, numbers[led], step[1]) for step, led in self.follow(node)] for node in found]
+        return [[(step, numbers[led], step[1]) for step, led in self.follow(node) if led in numbers] for node in found]
 
 
 def turn_through(edges, number, step):
